@@ -1,0 +1,1 @@
+"""floorwalks: the least counter for every change of a program with one counter."""

@@ -1,0 +1,85 @@
+"""What several tests share: programs, wrong values, and a search among counters that knows nothing of the package."""
+
+from floorwalks.errors import InvalidNumber, NothingToUndo
+from floorwalks.programs import Program
+
+NAMES = ["a", "b", "c", "d"]
+
+
+def mill():
+    return Program(["up", "down"], [("up", 0, 3, "up"), ("up", 2, -2, "down"), ("down", 4, -4, "down")])
+
+
+def some_values():
+    """Values of all kinds; a test leaves out those that are right where it puts them."""
+    deep = []
+    for _ in range(18):
+        deep = [deep]
+    return [None, True, False, 0, 1, -1, 9, 10 ** 40, -10 ** 40, "", "a", "up", "A", "a b", "abcdefghi", "up\n", "\u00e4",
+            [], [1], ["up"], [True], [[]], [()], [("up", 0, 0, "up")], (), (1, [0]), ("up",), ("up", 0, 0, "up"),
+            {}, {"up": 1}, {0: [0]}, deep, mill(), InvalidNumber(3), NothingToUndo()]
+
+
+def drawn_moves(rng, many, most):
+    moves = []
+    while len(moves) < most:
+        least, change = rng.randint(0, 8), rng.randint(-4, 4)
+        if 0 <= least + change <= 8:
+            moves.append((rng.choice(NAMES[:many]), least, change, rng.choice(NAMES[:many])))
+    return moves
+
+
+def drawn_program(rng):
+    many = rng.randint(1, 4)
+    return Program(NAMES[:many], drawn_moves(rng, many, rng.randint(0, 10)))
+
+
+def ring(names, steps):
+    """A ring of moves, each of which needs no more than it takes."""
+    return [(name, max(0, -step), step, names[(at + 1) % len(names)])
+            for at, (name, step) in enumerate(zip(names, steps))]
+
+
+def hard_programs():
+    """Full programs whose least begins come again late, by great steps, or from high counters."""
+    four, two, last = NAMES, NAMES[:2], NAMES[2:]
+    return [
+        Program(four, ring(four, [4, 4, 4, 4]) + ring(four, [3, 4, 4, 4]) + ring(four, [3, 4, 4, 4])[:2]),
+        Program(four, ring(four, [4, 4, 4, 4]) + [("a", 5, 3, "b"), ("a", 8, 0, "c"), ("b", 8, -4, "d")]),
+        Program(four, ring(four, [-4, -4, -4, -4]) + [("b", 3, -3, "c"), ("d", 8, -4, "a"), ("a", 8, -3, "b")]),
+        Program(four, ring(four, [4, 4, 4, 4]) + ring(four, [-4, -4, -4, -3]) + [("a", 8, -1, "a"), ("c", 7, 1, "d")]),
+        Program(four, ring(two, [-4, -3]) + [("b", 8, 0, "c")] + ring(last, [4, 4])),
+        Program(four, ring(two, [4, 3]) + [("b", 8, 0, "c")] + ring(last, [-4, -4])),
+        Program(four, [("a", 4, -4, "a"), ("a", 0, 0, "b")] + ring(four[1:], [4, 4, 3]) + [("c", 8, -1, "b")]),
+        Program(four, ring(four[:3], [-4, -4, -3]) + [("c", 3, 1, "d"), ("d", 0, 4, "d"), ("d", 5, 3, "d")]),
+        Program(four, [("a", 8, -4, "a"), ("a", 8, 0, "b"), ("b", 8, -3, "b"), ("b", 8, 0, "c"), ("c", 3, 3, "c"),
+                       ("c", 8, 0, "d"), ("d", 4, 4, "d"), ("a", 8, -1, "d")]),
+        Program(four, ring(four, [4, -4, 4, -3]) + ring(four, [-3, 4, -4, 4]) + [("d", 8, -2, "a"), ("b", 8, -1, "b")]),
+        Program(four, [(name, 8, -1, name) for name in four] + ring(four, [1, 1, 1, 1])),
+    ]
+
+
+def ends_by_search(moves, place, counter, ceiling):
+    """All (place, counter) that can be come to without going above a ceiling."""
+    seen = {(place, counter)}
+    waiting = [(place, counter)]
+    while waiting:
+        at, held = waiting.pop()
+        for start, least, change, other in moves:
+            if start == at and held >= least and held + change <= ceiling and (other, held + change) not in seen:
+                seen.add((other, held + change))
+                waiting.append((other, held + change))
+    return seen
+
+
+def written_out(row):
+    return [number for times, numbers in row for _ in range(times) for number in numbers]
+
+
+def done_one_by_one(moves, counter, numbers):
+    """The counter behind the moves, or None if one can't be done."""
+    for number in numbers:
+        if counter < moves[number][1]:
+            return None
+        counter += moves[number][2]
+    return counter
