@@ -3,6 +3,7 @@
 from math import lcm
 
 from floorwalks.checks import check_place, check_program, check_whole
+from floorwalks.rounds import least_step
 from floorwalks.walks import SETTLED
 
 
@@ -24,7 +25,8 @@ def steps_of(program, place, other):
     walks = program.walks()
     rises = walks.rises(place, other)
     falls = walks.falls(place, other)
-    step = lcm(_least_step(rises, walks.common()), _least_step(falls, walks.common()))
+    settled = SETTLED + walks.common()
+    step = lcm(least_step(rises[SETTLED:settled]), least_step(falls[SETTLED:settled]))
     return (max(_least_bound(rises, step), _least_bound(falls, step)), step)
 
 
@@ -37,13 +39,6 @@ def _check_places(program, place, other):
 def _check_change(program, place, other, change):
     _check_places(program, place, other)
     check_whole(change)
-
-
-def _least_step(needs, common):
-    """Return the least step of what comes again by a common step from SETTLED on."""
-    settled = needs[SETTLED:SETTLED + common]
-    return min([step for step in range(1, common + 1)
-                if common % step == 0 and settled[step:] + settled[:step] == settled])
 
 
 def _least_bound(needs, step):

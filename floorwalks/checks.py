@@ -27,3 +27,16 @@ def check_counter(value):
     """Raise InvalidNumber unless an argument is a whole number of at least 0."""
     if not is_whole(value) or value < 0:
         raise InvalidNumber(value)
+
+
+def check_start(program, place, counter):
+    """Raise the error of the first argument that does not fit where runs begin at place with counter."""
+    check_program(program)
+    check_place(program, place)
+    check_counter(counter)
+
+
+def check_way(program, place, counter, other):
+    """Raise the error of the first argument that does not fit where runs lead from place with counter to other."""
+    check_start(program, place, counter)
+    check_place(program, other)

@@ -1,4 +1,4 @@
-"""The common step of the rounds of a program, which are its runs from a place back to it."""
+"""The common step of the rounds of a program, which are its runs from a place back to it, and least steps."""
 
 from math import gcd, lcm
 
@@ -11,6 +11,12 @@ def common_step(moves, many):
         if step > 0:
             common = lcm(common, step)
     return common
+
+
+def least_step(items):
+    """Return the least step by which the items of a list come again, if the list as a whole does."""
+    many = len(items)
+    return min([step for step in range(1, many + 1) if many % step == 0 and items[step:] + items[:step] == items])
 
 
 def _step_at(moves, start):

@@ -1,6 +1,6 @@
 """Pressed rows: lists of (times, numbers of moves), and what they need and change."""
 
-from floorwalks.checks import check_counter, check_place, check_program
+from floorwalks.checks import check_place, check_program, check_start
 from floorwalks.errors import InvalidRow
 from floorwalks.kinds import is_between, is_whole
 
@@ -15,27 +15,30 @@ def is_row(program, place, value):
 def change_of(program, row):
     """Return by how much a row raises the counter."""
     _check_row(program, row)
-    return _need_and_change(program.moves(), row)[1]
+    return need_and_change(program.moves(), row)[1]
 
 
 def need_of(program, row):
     """Return the least counter from which the moves of a row can be done one behind the other."""
     _check_row(program, row)
-    return _need_and_change(program.moves(), row)[0]
+    return need_and_change(program.moves(), row)[0]
 
 
 def led(program, place, counter, row):
     """Return (other, counter) behind a row, or None if the counter is less than it needs."""
-    check_program(program)
-    check_place(program, place)
-    check_counter(counter)
-    if not _is_pressed(program, row) or not _begins_at(program, place, row):
-        raise InvalidRow(row)
+    check_led(program, place, counter, row)
     moves = program.moves()
-    need, change = _need_and_change(moves, row)
+    need, change = need_and_change(moves, row)
     if counter < need:
         return None
     return (_end_of(moves, place, row), counter + change)
+
+
+def check_led(program, place, counter, row):
+    """Raise the error of the first argument that does not fit where a row is done from a place with a counter."""
+    check_start(program, place, counter)
+    if not _is_pressed(program, row) or not _begins_at(program, place, row):
+        raise InvalidRow(row)
 
 
 def _check_row(program, row):
@@ -80,7 +83,8 @@ def _end_of(moves, place, row):
     return moves[row[-1][1][-1]][3] if row else place
 
 
-def _need_and_change(moves, row):
+def need_and_change(moves, row):
+    """Return the tuple of what a pressed row needs and by how much it raises the counter."""
     need = 0
     change = 0
     for times, numbers in row:

@@ -62,6 +62,10 @@ class Walks:
         end = self._least(TURNED, self._at[other], self._at[place], -change)
         return None if end is None else end - change
 
+    def comes(self, place, counter, other, end):
+        """Return whether other can be come to with end from place with counter."""
+        return _is_within(self.least(place, other, end - counter), counter)
+
     def row(self, place, other, change):
         """Return a pressed row for a change that needs no more than its least begin, or None."""
         if change >= 0:

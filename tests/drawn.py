@@ -2,6 +2,7 @@
 
 from floorwalks.errors import InvalidNumber, NothingToUndo
 from floorwalks.programs import Program
+from floorwalks.rows import is_row, led
 
 NAMES = ["a", "b", "c", "d"]
 
@@ -34,6 +35,14 @@ def drawn_program(rng):
     return Program(NAMES[:many], drawn_moves(rng, many, rng.randint(0, 10)))
 
 
+def drawn_full_program(rng):
+    return Program(NAMES, drawn_moves(rng, 4, 10))
+
+
+def turned_moves(moves):
+    return [(other, least + change, -change, place) for place, least, change, other in moves]
+
+
 def ring(names, steps):
     """A ring of moves, each of which needs no more than it takes."""
     return [(name, max(0, -step), step, names[(at + 1) % len(names)])
@@ -59,14 +68,27 @@ def hard_programs():
     ]
 
 
-def ends_by_search(moves, place, counter, ceiling):
-    """All (place, counter) that can be come to without going above a ceiling."""
+def drawn_climber(rng):
+    """A program of two rings, one that rises and one that falls, and ways from the first to the second."""
+    many, sign = rng.randint(1, 3), rng.choice([1, -1])
+    first, second = NAMES[:many], NAMES[many:]
+    moves = ring(first, [sign * rng.choice([4, 4, 3, 2]) for _ in first])
+    moves += ring(second, [-sign * rng.choice([4, 4, 3, 2]) for _ in second])
+    for _ in range(rng.randint(1, 4)):
+        change = rng.choice([-4, -1, 0, 1, 4])
+        moves.append((rng.choice(first), rng.choice([max(0, -change), 8 - max(0, change)]), change, rng.choice(second)))
+    return Program(NAMES, [(place, rng.choice([least, least, rng.randint(least, 8 - max(0, change))]), change, other)
+                           for place, least, change, other in moves])
+
+
+def ends_by_search(moves, place, counter, ceiling, low=0):
+    """All (place, counter) that can be come to without going above a ceiling, or below low."""
     seen = {(place, counter)}
     waiting = [(place, counter)]
     while waiting:
         at, held = waiting.pop()
         for start, least, change, other in moves:
-            if start == at and held >= least and held + change <= ceiling and (other, held + change) not in seen:
+            if start == at and held >= least and low <= held + change <= ceiling and (other, held + change) not in seen:
                 seen.add((other, held + change))
                 waiting.append((other, held + change))
     return seen
@@ -83,3 +105,12 @@ def done_one_by_one(moves, counter, numbers):
             return None
         counter += moves[number][2]
     return counter
+
+
+def check_told_row(test, program, begin, row, end):
+    """Check that a row that was told leads from one tuple (place, counter) to another and is not too long."""
+    test.assertIs(is_row(program, begin[0], row), True)
+    test.assertEqual(led(program, begin[0], begin[1], row), end, (program.moves(), begin))
+    test.assertLessEqual(len(row), 10)
+    test.assertLessEqual(sum(len(numbers) for _, numbers in row), 50000)
+    test.assertEqual(len({id(numbers) for _, numbers in row}), len(row))

@@ -10,16 +10,12 @@ from floorwalks.errors import InvalidNumber, InvalidProgram, UnknownName
 from floorwalks.programs import Program
 from floorwalks.rows import change_of, is_row, led, need_of
 
-from drawn import NAMES, drawn_moves, drawn_program, ends_by_search, hard_programs, mill, ring, some_values
+from drawn import NAMES, drawn_full_program, drawn_program, ends_by_search, hard_programs, mill, ring, some_values
 
 # All steps by which a program of 4 places can come again divide this number.
 ANY_STEP = lcm(*range(1, 17))
 # A shortest run climbs at most this much above its begin and its end (256 ways to pass a level, and 11).
 CLIMB = 270
-
-
-def drawn_full_program(rng):
-    return Program(NAMES, drawn_moves(rng, 4, 10))
 
 
 def pairs_of(program):
