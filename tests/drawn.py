@@ -94,6 +94,15 @@ def ends_by_search(moves, place, counter, ceiling, low=0):
     return seen
 
 
+def numbers_up_to(stretches, most):
+    """The numbers of at most a number that stretches hold, written out."""
+    found = set()
+    for first, step, many in stretches:
+        stop = most + 1 if many is None else min(most + 1, first + many * step)
+        found.update(range(first, stop, step))
+    return found
+
+
 def written_out(row):
     return [number for times, numbers in row for _ in range(times) for number in numbers]
 

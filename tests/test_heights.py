@@ -376,6 +376,8 @@ class ErrorTests(unittest.TestCase):
                         arguments = [mill()] + right[:at] + [value] + behind
                         if isinstance(argument, str) and value not in ("up", "down"):
                             self.assertIs(self.raised(UnknownName, called, *arguments).name, value)
+                            bare = Program(["up", "down"], [])
+                            self.assertIs(self.raised(UnknownName, called, bare, *arguments[1:]).name, value)
                         whole = isinstance(value, int) and not isinstance(value, bool)
                         if isinstance(argument, int) and (not whole or value < 0):
                             self.assertIs(self.raised(InvalidNumber, called, *arguments).value, value)

@@ -11,8 +11,8 @@ from floorwalks.errors import InvalidItem, InvalidList, InvalidNumber, InvalidPr
 from floorwalks.kept import ends_of, holds, is_kept
 from floorwalks.programs import Program
 
-from drawn import (NAMES, drawn_full_program, drawn_program, ends_by_search, hard_programs, mill, ring, some_values,
-                   turned_moves)
+from drawn import (NAMES, drawn_full_program, drawn_program, ends_by_search, hard_programs, mill, numbers_up_to, ring,
+                   some_values, turned_moves)
 
 # A shortest run climbs at most this much above its begin and its end (256 ways to pass a level, and 11).
 CLIMB = 270
@@ -27,15 +27,6 @@ def bent_stretches():
     bent += [(2, step, 4) for step in (0, -1, -10 ** 40, True, False, None, "3", (3,), [3])]
     bent += [(2, 3, many) for many in (0, -1, -10 ** 40, True, False, "4", (4,), [4], ())]
     return bent
-
-
-def numbers_up_to(stretches, most):
-    """The numbers of at most a number that stretches hold, written out."""
-    found = set()
-    for first, step, many in stretches:
-        stop = most + 1 if many is None else min(most + 1, first + many * step)
-        found.update(range(first, stop, step))
-    return found
 
 
 def closed_by_search(program, value):
@@ -163,6 +154,23 @@ class EndsTests(unittest.TestCase):
                             self.assertIs(holds(stretches, end), least is not None and least <= counter,
                                           (program.moves(), place, counter, other, end))
 
+    def test_where_little_lies_between_both_sides(self):
+        rng = random.Random(41)
+        for program in hard_programs()[4:9]:
+            for counter in rng.sample(range(566, 660), 12):
+                place, other = rng.choice(NAMES), rng.choice(NAMES)
+                told = ends_of(program, place, counter)
+                self.check_shape(program, told)
+                leasts = [least_for(program, place, other, end - counter) for end in range(counter + 500)]
+                self.assertEqual(numbers_up_to(dict(told)[other], counter + 499),
+                                 {end for end, least in enumerate(leasts) if least is not None and least <= counter},
+                                 (program.moves(), place, counter, other))
+
+    def test_what_comes_again_is_told_at_once(self):
+        for counter in [9, 569, 700, GREAT]:
+            for other, stretches in ends_of(mill(), "down", counter) + ends_of(mill(), "up", counter):
+                self.assertLessEqual(len(stretches), 9, (counter, other))
+
     def test_what_is_told_is_kept(self):
         rng = random.Random(34)
         for program in hard_programs() + [drawn_program(rng) for _ in range(60)]:
@@ -261,6 +269,15 @@ class KeptTests(unittest.TestCase):
         self.assertFalse(is_kept(high, [("a", [(1, 4, None)]), ("b", [(15, 4, None)])]))
         self.assertTrue(is_kept(high, [("a", [(1, 4, None)]), ("b", [(15, 4, None), (11, 9, 1)])]))
 
+    def test_single_numbers_at_a_guard(self):
+        high = Program(["a", "b"], [("a", 6, 2, "b")])
+        for many in (1, None):
+            self.assertTrue(is_kept(high, [("a", [(5, 1, 1), (0, 1, 1)]), ("b", [])]))
+            self.assertFalse(is_kept(high, [("a", [(6, 9, many)]), ("b", [])]))
+            self.assertTrue(is_kept(high, [("a", [(6, 9, many)]), ("b", [(8, 9, many)])]))
+            self.assertFalse(is_kept(high, [("a", [(6, 9, many)]), ("b", [(7, 9, many)])]))
+            self.assertFalse(is_kept(high, [("a", [(6, 9, many), (7, 1, 1)]), ("b", [(8, 9, many)])]))
+
     def test_one_number_less_and_one_too_many(self):
         up = Program(["a", "b"], [("a", 0, 0, "b")])
         many = 10 ** 39
@@ -287,6 +304,48 @@ class KeptTests(unittest.TestCase):
         self.assertTrue(is_kept(up, all_numbers + [("b", cover)]))
         for at in range(len(cover)):
             self.assertFalse(is_kept(up, all_numbers + [("b", cover[:at] + cover[at + 1:])]))
+
+    def parted(self, rng, stretch, depth):
+        """Stretches that hold what a stretch holds, parted by rests and at some numbers, and perhaps some more."""
+        first, step, many = stretch
+        if depth == 0 or many is not None and many <= 3:
+            return [stretch]
+        kind = rng.random()
+        if kind < 0.4:
+            part = rng.choice([2, 2, 3])
+            parts = [(first + at * step, part * step, None if many is None else (many - 1 - at) // part + 1)
+                     for at in range(part)]
+        elif kind < 0.7:
+            ahead = rng.randint(1, 3)
+            parts = [(first, step, ahead), (first + ahead * step, step, None if many is None else many - ahead)]
+        else:
+            finer = rng.choice([divisor for divisor in range(1, step + 1) if step % divisor == 0])
+            parts = [(first, finer, None if many is None else (many - 1) * (step // finer) + 1)]
+        return [piece for part in parts for piece in self.parted(rng, part, depth - 1)]
+
+    def test_parted_stretches_against_a_search(self):
+        rng = random.Random(40)
+        told = {True: 0, False: 0}
+        for _ in range(1500):
+            least, change = rng.choice([(0, 0), (0, 3), (4, -4), (7, 1), (8, -2)])
+            up = Program(["a", "b"], [("a", least, change, "b")])
+            first, step, many = rng.randint(0, 40), rng.choice([1, 2, 3, 4, 6]), rng.choice([None, None, 2, 5, 12, 40])
+            ahead = max(0, -((first - least) // step))
+            held = []
+            if many is None or many > ahead:
+                whole = (first + ahead * step + change, step, None if many is None else many - ahead)
+                held = self.parted(rng, whole, 2)
+            if held and rng.random() < 0.6:
+                at = rng.randrange(len(held))
+                begin, by, number = held[at]
+                held[at:at + 1] = rng.choice([[], [(begin + by, by, number)], [(begin, by, 1), (begin + 2 * by, by, number)],
+                                              [(begin, by, number or 9)], [(begin, 2 * by, number), (begin + by, 2 * by, number)]])
+            rng.shuffle(held)
+            value = [("a", [(first, step, many)]), ("b", held)]
+            kept = is_kept(up, value)
+            self.assertIs(kept, closed_by_search(up, value), (up.moves(), value))
+            told[kept] += 1
+        self.assertGreater(min(told.values()), 300)
 
     def test_drawn_values_against_a_search(self):
         rng = random.Random(35)
