@@ -41,14 +41,15 @@ def is_move(value, places):
     if not isinstance(value, tuple) or len(value) != 4:
         return False
     place, least, change, other = value
-    if not _is_among(place, places) or not _is_among(other, places):
+    if not is_among(place, places) or not is_among(other, places):
         return False
     if not is_between(least, 0, MOST_LEAST) or not is_between(change, -MOST_CHANGE, MOST_CHANGE):
         return False
     return 0 <= least + change <= MOST_LEAST
 
 
-def _is_among(value, places):
+def is_among(value, places):
+    """Return whether a value is one of the places of a list."""
     return isinstance(value, str) and value in places
 
 

@@ -31,7 +31,7 @@ def led(program, place, counter, row):
     need, change = need_and_change(moves, row)
     if counter < need:
         return None
-    return (_end_of(moves, place, row), counter + change)
+    return (end_of(moves, place, row), counter + change)
 
 
 def check_led(program, place, counter, row):
@@ -79,7 +79,8 @@ def _begins_at(program, place, row):
     return not row or program.moves()[row[0][1][0]][0] == place
 
 
-def _end_of(moves, place, row):
+def end_of(moves, place, row):
+    """Return where a pressed row ends that begins at a place."""
     return moves[row[-1][1][-1]][3] if row else place
 
 

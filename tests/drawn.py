@@ -1,8 +1,11 @@
 """What several tests share: programs, wrong values, and a search among counters that knows nothing of the package."""
 
 from floorwalks.errors import InvalidNumber, NothingToUndo
+from floorwalks.library import Library
+from floorwalks.live import Live
 from floorwalks.programs import Program
 from floorwalks.rows import is_row, led
+from floorwalks.tested import Tested
 
 NAMES = ["a", "b", "c", "d"]
 
@@ -18,7 +21,16 @@ def some_values():
         deep = [deep]
     return [None, True, False, 0, 1, -1, 9, 10 ** 40, -10 ** 40, "", "a", "up", "A", "a b", "abcdefghi", "up\n", "\u00e4",
             [], [1], ["up"], [True], [[]], [()], [("up", 0, 0, "up")], (), (1, [0]), ("up",), ("up", 0, 0, "up"),
-            {}, {"up": 1}, {0: [0]}, deep, mill(), InvalidNumber(3), NothingToUndo()]
+            {}, {"up": 1}, {0: [0]}, deep, mill(), Tested(mill(), []), Live(mill()), Library(),
+            InvalidNumber(3), NothingToUndo()]
+
+
+def clock():
+    return Tested(mill(), [("down", 5, "up"), ("down", 0, "down")])
+
+
+def drawn_tests(rng, places, most):
+    return [(rng.choice(places), rng.randint(0, 8), rng.choice(places)) for _ in range(most)]
 
 
 def drawn_moves(rng, many, most):

@@ -7,7 +7,7 @@ import unittest
 PACKAGE = pathlib.Path(__file__).resolve().parent.parent / "floorwalks"
 LIBRARY = {"math": {"gcd", "lcm", "isqrt"}, "heapq": {"heappush", "heappop"}, "itertools": {"product"}}
 BUILTINS = set("len range enumerate zip min max sum abs sorted reversed int str bool list tuple dict set isinstance ord "
-               "repr any all divmod super ValueError KeyError".split())
+               "repr any all divmod super iter ValueError KeyError".split())
 BARRED = (ast.Global, ast.AsyncFunctionDef, ast.Await, ast.GeneratorExp, ast.Div, ast.Import)
 
 
@@ -20,7 +20,7 @@ class LanguageTests(unittest.TestCase):
         self.assertIn(PACKAGE / "__init__.py", files())
         for path in files():
             self.assertEqual(path.suffix, ".py")
-            self.assertFalse(path.name.startswith("test"))
+            self.assertFalse(path.name.startswith("test_") or path.stem in ("test", "tests", "testing"), path)
 
     def test_sizes_and_characters(self):
         for path in files():
